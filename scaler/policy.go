@@ -3,6 +3,7 @@ package scaler
 
 import (
 	"scaler/api"
+	"scaler/bytecode"
 	"scaler/syntax"
 )
 
@@ -49,16 +50,9 @@ func each(list []string) api.Seq[string] {
 }
 
 // Code compiles it (P10).
-func (p *Policy) Code() []byte { return nil }
-
-// Program is code that was loaded.
-type Program struct{}
-
-// Load checks code and binds its probes (P11).
-func Load(code []byte, probes map[string]api.Probe) (*Program, error) { return nil, nil }
-
-// Names goes through the metrics of a program (P11).
-func (g *Program) Names() api.Seq[string] { return nil }
-
-// Eval works out the value (P12).
-func (g *Program) Eval(look api.Look) (int64, error) { return 0, nil }
+func (p *Policy) Code() []byte {
+	if p.empty() {
+		return nil
+	}
+	return bytecode.Write(p.tree)
+}

@@ -32,9 +32,9 @@ func Read(src string) (*Tree, error) {
 	return &Tree{root, r.metrics}, nil
 }
 
-func (r *reader) stuck() error {
-	return &api.SyntaxError{Place: api.Place{At: r.now.at}}
-}
+func (r *reader) place() api.Place { return api.Place{At: r.now.at} }
+
+func (r *reader) stuck() error { return &api.SyntaxError{Place: r.place()} }
 
 func (r *reader) step() {
 	r.now = tokenFrom(r.src, r.now.at+len(r.now.text))
@@ -113,13 +113,13 @@ func (r *reader) chain(links string, part func() (Node, error)) (Node, error) {
 
 // pair reads the sign in view and what stands behind it.
 func (r *reader) pair(left Node, part func() (Node, error)) (Node, error) {
-	between := r.now.text[0]
+	at, between := r.place(), r.now.text[0]
 	r.step()
 	right, err := part()
 	if err != nil {
 		return nil, err
 	}
-	return &Pair{between, left, right}, nil
+	return &Pair{at, between, left, right}, nil
 }
 
 func (r *reader) minus() (Node, error) {
@@ -160,18 +160,18 @@ func (r *reader) inner() (Node, error) {
 }
 
 func (r *reader) call() (Node, error) {
-	word := r.now.text
+	at, word := r.place(), r.now.text
 	r.step()
 	if err := r.takeSign("("); err != nil {
 		return nil, err
 	}
-	if isKind(word) {
-		return r.measure(word)
+	if IsKind(word) {
+		return r.measure(at, word)
 	}
-	return r.probe(word)
+	return r.probe(at, word)
 }
 
-func (r *reader) measure(kind string) (Node, error) {
+func (r *reader) measure(at api.Place, kind string) (Node, error) {
 	metric, err := r.take(name)
 	if err != nil {
 		return nil, err
@@ -187,7 +187,7 @@ func (r *reader) measure(kind string) (Node, error) {
 		return nil, err
 	}
 	r.note(metric)
-	return &Measure{kind, metric, width}, nil
+	return &Measure{at, kind, metric, width}, nil
 }
 
 func (r *reader) note(metric string) {
@@ -196,10 +196,10 @@ func (r *reader) note(metric string) {
 	}
 }
 
-func (r *reader) probe(word string) (Node, error) {
+func (r *reader) probe(at api.Place, word string) (Node, error) {
 	if r.sees(")") {
 		r.step()
-		return &Probe{Name: word}, nil
+		return &Probe{at, word, nil}, nil
 	}
 	var args []Node
 	for {
@@ -216,5 +216,5 @@ func (r *reader) probe(word string) (Node, error) {
 	if err := r.takeSign(")"); err != nil {
 		return nil, err
 	}
-	return &Probe{word, args}, nil
+	return &Probe{at, word, args}, nil
 }

@@ -75,7 +75,14 @@ func isDigit(r rune) bool { return '0' <= r && r <= '9' }
 
 func isNamePart(r rune) bool { return unicode.IsLetter(r) || unicode.IsDigit(r) }
 
-func isKind(word string) bool {
+// IsName tells whether a text is a name, and nothing besides.
+func IsName(text string) bool {
+	kind, word := firstToken(text)
+	return kind == name && word == text
+}
+
+// IsKind tells whether a name is a measure's kind.
+func IsKind(word string) bool {
 	switch word {
 	case "sum", "count", "least", "most", "mean", "last":
 		return true

@@ -4,6 +4,8 @@ package syntax
 import (
 	"strconv"
 	"strings"
+
+	"scaler/api"
 )
 
 // Tree is a policy that was read; Metrics: the names that it measures, each once, in the order of the text.
@@ -23,20 +25,25 @@ type (
 
 	Minus struct{ Of Node }
 
-	// Pair is a comparison, sum, difference, product or quotient.
+	// Pair is a comparison, sum, difference, product or quotient; its place is the sign's.
 	Pair struct {
+		api.Place
 		Sign        byte
 		Left, Right Node
 	}
 
 	Choice struct{ If, Then, Else Node }
 
+	// Measure has the place of its kind.
 	Measure struct {
+		api.Place
 		Kind, Metric string
 		Width        int64
 	}
 
+	// Probe has the place of its name.
 	Probe struct {
+		api.Place
 		Name string
 		Args []Node
 	}
