@@ -27,6 +27,9 @@ func TestP11Read(t *testing.T) {
 	if !slices.Equal(loaded.Metrics, []string{"b", "a"}) {
 		t.Errorf("P11: the metrics are %q", loaded.Metrics)
 	}
+	if want := []Span{{"b", 1}, {"a", 2}, {"b", 3}}; !slices.Equal(loaded.Spans, want) {
+		t.Errorf("P11: the spans are %v, want %v", loaded.Spans, want)
+	}
 	want := []Call{{api.Place{At: 0}, "f"}, {api.Place{At: 11}, "g"}, {api.Place{At: 30}, "f"}}
 	if !slices.Equal(loaded.Probes, want) {
 		t.Errorf("P11: the probes are %v, want %v", loaded.Probes, want)

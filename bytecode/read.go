@@ -8,11 +8,18 @@ import (
 	"scaler/syntax"
 )
 
-// Loaded is what code comes to: the function that works out its value, and, in the order of the text, the metrics (each once) and the probes that it asks for.
+// Loaded is what code comes to: the function that works out its value, and, in the order of the text, the metrics (each once), the spans and the probes that it asks for.
 type Loaded struct {
 	Value   Value
 	Metrics []string
+	Spans   []Span
 	Probes  []Call
+}
+
+// Span is what a measure is taken over: a metric, and how long.
+type Span struct {
+	Metric string
+	Width  int64
 }
 
 // Call is a probe's name, and the place at which it stands.
@@ -27,6 +34,7 @@ type reader struct {
 	parts   int
 	wrong   bool
 	metrics []string
+	spans   []Span
 	probes  []Call
 }
 
@@ -37,7 +45,7 @@ func Read(code []byte) (*Loaded, error) {
 	if r.wrong || len(r.rest) > 0 {
 		return nil, api.ErrCode
 	}
-	return &Loaded{value, r.metrics, r.probes}, nil
+	return &Loaded{value, r.metrics, r.spans, r.probes}, nil
 }
 
 func (r *reader) require(holds bool) { r.wrong = r.wrong || !holds }
@@ -110,11 +118,12 @@ func (r *reader) part() Value {
 func (r *reader) measure() Value {
 	at, kind := r.place(), r.name()
 	r.require(syntax.IsKind(kind))
-	metric := r.name()
+	metric, width := r.name(), r.number()
 	if !slices.Contains(r.metrics, metric) {
 		r.metrics = append(r.metrics, metric)
 	}
-	return measureOf(at, kind, metric, r.number())
+	r.spans = append(r.spans, Span{metric, width})
+	return measureOf(at, kind, metric, width)
 }
 
 func (r *reader) probe() Value {

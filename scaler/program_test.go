@@ -525,6 +525,7 @@ func checkCode(t *testing.T, code []byte) bool {
 			t.Fatalf("P11: the program of %q tells %v, then %v; loaded again: %v", before, a, b, c)
 		}
 	}
+	checkControllerOf(t, g)
 	return true
 }
 
